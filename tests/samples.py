@@ -40,3 +40,168 @@ def deeds_of_all_sorts(term):
         ("drop", "s", term),
         ("tell", term),
     )
+
+
+WHOLE_TEXT = """\
+shelf count last 0
+shelf total sum 4294967295
+shelf things bag apple 2 nut -3 pear 999999999
+shelf queue row nut apple nut
+shelf light told 3 2 (if (= was mine) yours (+ mine 1))
+shelf nothing bag
+shelf kid row
+hand main
+split kid
+when (= count 0) set count 7
+split zed
+lay queue (long queue) pear
+join kid
+join pal
+join zed
+hand aunt
+in things apple
+hand zed
+split aunt
+out things nut
+when (< 1 (many things nut)) drop queue 0
+join aunt
+hand pal
+tell (if count total (- 5 light))
+when light tell 0
+hand kid
+split pal
+more total (* total 2)
+set light 1"""
+
+WHOLE = (
+    (
+        ("count", ("last",), 0),
+        ("total", ("sum",), WIDE - 1),
+        ("things", ("bag",), (("apple", 2), ("nut", -3), ("pear", 999999999))),
+        ("queue", ("row",), ("nut", "apple", "nut")),
+        (
+            "light",
+            ("told", 3, ("if", ("op", "=", ("was",), ("mine",)), ("yours",), ("op", "+", ("mine",), ("num", 1)))),
+            2,
+        ),
+        ("nothing", ("bag",), ()),
+        ("kid", ("row",), ()),
+    ),
+    (
+        (
+            "main",
+            (
+                ("split", "kid"),
+                ("when", ("op", "=", ("shelf", "count"), ("num", 0)), ("set", "count", ("num", 7))),
+                ("split", "zed"),
+                ("lay", "queue", ("long", "queue"), "pear"),
+                ("join", "kid"),
+                ("join", "pal"),
+                ("join", "zed"),
+            ),
+        ),
+        ("aunt", (("in", "things", "apple"),)),
+        (
+            "zed",
+            (
+                ("split", "aunt"),
+                ("out", "things", "nut"),
+                ("when", ("op", "<", ("num", 1), ("many", "things", "nut")), ("drop", "queue", ("num", 0))),
+                ("join", "aunt"),
+            ),
+        ),
+        (
+            "pal",
+            (
+                ("tell", ("if", ("shelf", "count"), ("shelf", "total"), ("op", "-", ("num", 5), ("shelf", "light")))),
+                ("when", ("shelf", "light"), ("tell", ("num", 0))),
+            ),
+        ),
+        (
+            "kid",
+            (
+                ("split", "pal"),
+                ("more", "total", ("op", "*", ("shelf", "total"), ("num", 2))),
+                ("set", "light", ("num", 1)),
+            ),
+        ),
+    ),
+)
+
+# Terms and their texts: of a told manner, and of the others.
+COMMON_TERMS = (
+    (num(0), "0"),
+    (num(7), "7"),
+    (num(10), "10"),
+    (num(999999999), "999999999"),
+    (num(1000000000), "1000000000"),
+    (num(WIDE - 1), "4294967295"),
+    (op("+", num(1), num(2)), "(+ 1 2)"),
+    (op("-", num(1), num(2)), "(- 1 2)"),
+    (op("*", num(1), num(2)), "(* 1 2)"),
+    (op("<", num(1), num(2)), "(< 1 2)"),
+    (op("=", num(1), num(2)), "(= 1 2)"),
+    (("if", num(1), num(2), num(3)), "(if 1 2 3)"),
+    (op("+", op("-", num(1), num(2)), op("*", num(3), num(4))), "(+ (- 1 2) (* 3 4))"),
+    (("if", ("if", num(1), num(2), num(3)), num(4), op("<", num(5), num(6))), "(if (if 1 2 3) 4 (< 5 6))"),
+)
+OPEN_TERMS = (
+    (shelf("a"), "a"),
+    (shelf("abcdefgh"), "abcdefgh"),
+    (("many", "b", "w"), "(many b w)"),
+    (("many", "abcdefgh", "stuvwxyz"), "(many abcdefgh stuvwxyz)"),
+    (("long", "r"), "(long r)"),
+    (("long", "abcdefgh"), "(long abcdefgh)"),
+    (op("=", ("long", "r"), ("many", "b", "w")), "(= (long r) (many b w))"),
+    (("if", shelf("a"), shelf("b"), ("long", "c")), "(if a b (long c))"),
+    # Words that are like words of the texts.
+    (shelf("if"), "if"),
+    (shelf("was"), "was"),
+    (shelf("mine"), "mine"),
+    (shelf("yours"), "yours"),
+    (shelf("num"), "num"),
+    (("many", "many", "many"), "(many many many)"),
+    (("long", "long"), "(long long)"),
+    (("if", shelf("if"), shelf("if"), shelf("if")), "(if if if if)"),
+    (op("+", shelf("long"), shelf("many")), "(+ long many)"),
+)
+TOLD_TERMS = (
+    (("was",), "was"),
+    (("mine",), "mine"),
+    (("yours",), "yours"),
+    (op("-", op("+", ("mine",), ("yours",)), ("was",)), "(- (+ mine yours) was)"),
+    (("if", op("=", ("was",), ("mine",)), ("yours",), ("mine",)), "(if (= was mine) yours mine)"),
+)
+
+# Texts that are no term, whatever the manner.
+NO_TERMS = (
+    # words and numbers
+    "", "A", "aB", "a1", "1a", "abcdefghi", "a_b", "+", "-", "#", "a,", "a.b", "-a",
+    "4294967296", "4294967299", "9999999999", "10000000000", "42949672950", "1" * 5000, "0" * 5000,
+    "00", "01", "007", "00000000000", "0000000001", "-1", "-0", "+1", "1_0", "1.0", "0x1", "1e3", "--1",
+    "\u0663", "\u00b2", "\u00e4",
+    # blanks and line feeds
+    " ", "  ", " 1", "1 ", " a", "a ", "\n", "1\n", "\n1", "a\n", "\ta", "a\t", "a\r", "1 2", "a b",
+    " (+ 1 2)", "(+ 1 2) ", "( + 1 2)", "(+ 1 2 )", "(+  1 2)", "(+ 1  2)", "(+ 1 2)\n", "(+\n1 2)", "(+\t1 2)",
+    "(+ (- 1 2) (- 1 2) )", "( (+ 1 2))", "(+ ( - 1 2) 3)", "(+ (- 1 2 ) 3)",
+    # brackets
+    "()", "( )", "(", ")", ")(", "(1)", "(a)", "((+ 1 2))", "(+ (1) 2)", "(+ 1 (2))", "(+ (a) 2)", "((1))",
+    "(+ 1 2", "+ 1 2)", "+ 1 2", "(+ 1 2))", "((+ 1 2)", "(+ 1 (- 2 3)", "(+ 1 - 2 3))", "(+ (- 1 2) 3))",
+    "(+ 1 2)(+ 1 2)", "(+ 1 2) (+ 1 2)", "(+ 1 2)3", "3(+ 1 2)", "(+(- 1 2) 3)", "(+ (- 1 2)3)", "(+ 1(- 2 3))",
+    "(+1 2)", "[+ 1 2]", "{+ 1 2}", "<+ 1 2>", ")+ 1 2(", "(+ 1 2()", "(+ 1 2 ())", "(if (1) 2 3)",
+    "(was)", "(mine)", "(yours)", "(num 1)", "(shelf a)", "(op + 1 2)", "shelf a", "num 1",
+    # heads, and as many words as they have
+    "(+)", "(+ 1)", "(+ 1 2 3)", "(- 1)", "(* 1 2 3)", "(<)", "(= 1)", "(if)", "(if 1)", "(if 1 2)", "(if 1 2 3 4)",
+    "(1 2)", "(1 + 2)", "(/ 1 2)", "(> 1 2)", "(<= 1 2)", "(== 1 2)", "(** 1 2)", "(++ 1 2)", "(!= 1 2)",
+    "(foo 1 2)", "(IF 1 2 3)", "(If 1 2 3)", "(iff 1 2 3)", "(i 1 2 3)", "(& 1 2)", "(1 2 3)", "(a 1 2)",
+    "(many)", "(many a)", "(many a b c)", "(many a 1)", "(many 1 a)", "(many (a) b)", "(many a (b))", "(many A b)",
+    "(many a abcdefghi)", "(many abcdefghi a)", "(many a B)", "(many (long a) b)", "many a b", "(many  a b)",
+    "(long)", "(long a b)", "(long 1)", "(long (a))", "(long A)", "(long abcdefghi)", "(long (long a))", "long a",
+    "(Long a)", "(longer a)", "( long a)", "(long a )", "(long  a)",
+    "(+ 1 4294967296)", "(+ 01 2)", "(+ -1 2)", "(if 1 2 -3)", "(+ 1 abcdefghi)", "(+ A 1)", "(+ 1 +)", "(+ + 1)",
+)
+
+
+def brackets(many, inmost="1"):
+    """The text of a term with so many brackets within one another."""
+    return "(+ 1 " * many + inmost + ")" * many
