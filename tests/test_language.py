@@ -1,4 +1,4 @@
-"""Whether the package's files keep to the part of Python that the program is written in."""
+"""Whether the package's files keep to the part of Python that the program is written in, as far as is seen by form here."""
 
 import ast
 import builtins
