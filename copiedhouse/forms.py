@@ -45,3 +45,12 @@ def shelf_of(deed):
     if deed[0] == "tell":
         return None
     return deed[1]
+
+
+# In and out have no term.
+def term_of(deed):
+    if deed[0] == "tell":
+        return deed[1]
+    if deed[0] in ("in", "out"):
+        return None
+    return deed[2]

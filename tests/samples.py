@@ -1,5 +1,7 @@
 """Programs, texts and terms that several tests ask for, and what tells their kinds."""
 
+import random
+
 WIDE = 4294967296
 
 
@@ -205,3 +207,102 @@ NO_TERMS = (
 def brackets(many, inmost="1"):
     """The text of a term with so many brackets within one another."""
     return "(+ 1 " * many + inmost + ")" * many
+
+
+class LetBy:
+    """Makes programs that are let by, of one seed the same ones each time; shelves, hands and things share their words."""
+
+    WORDS = ("a", "b", "c", "d", "e", "f", "g", "h")
+
+    def __init__(self, seed):
+        self.chance = random.Random(seed)
+        self.shelves = ()
+
+    def told_term(self, deep):
+        kind = self.chance.choice(("num", "three", "three", "op", "if")) if deep else self.chance.choice(("num", "three"))
+        if kind == "num":
+            return num(self.chance.choice((0, 1, 2, 3)))
+        if kind == "three":
+            return (self.chance.choice(("was", "mine", "yours")),)
+        many = 2 if kind == "op" else 3
+        inner = tuple(self.told_term(deep - 1) for _ in range(many))
+        return ("op", self.chance.choice("+-*<=")) + inner if kind == "op" else ("if",) + inner
+
+    def shelf(self, word):
+        manner = self.chance.choice(("last", "sum", "bag", "row", "row", "told"))
+        if manner == "told":
+            n = self.chance.randint(2, 5)
+            return (word, ("told", n, self.told_term(2)), self.chance.randrange(n))
+        if manner == "bag":
+            things = sorted(self.chance.sample(self.WORDS[:4], self.chance.randint(0, 3)))
+            return (word, ("bag",), tuple((thing, self.chance.choice((-2, -1, 1, 2))) for thing in things))
+        if manner == "row":
+            return (word, ("row",), tuple(self.chance.choice("abc") for _ in range(self.chance.randint(0, 6))))
+        return (word, (manner,), self.chance.choice((0, 1, 5, WIDE - 1)))
+
+    def leaf(self):
+        if not self.shelves or self.chance.random() < 0.4:
+            return num(self.chance.choice((0, 0, 1, 1, 2, 3, 4, WIDE - 1)))
+        word, manner, _ = self.chance.choice(self.shelves)
+        if manner == ("bag",):
+            return ("many", word, self.chance.choice(self.WORDS[:4]))
+        return ("long", word) if manner == ("row",) else ("shelf", word)
+
+    def term(self, deep):
+        kind = self.chance.choice(("leaf", "leaf", "op", "if")) if deep else "leaf"
+        if kind == "leaf":
+            return self.leaf()
+        many = 2 if kind == "op" else 3
+        inner = tuple(self.term(deep - 1) for _ in range(many))
+        return ("op", self.chance.choice("+-*<=")) + inner if kind == "op" else ("if",) + inner
+
+    def deed(self):
+        if not self.shelves or self.chance.random() < 0.15:
+            return ("tell", self.term(2))
+        word, manner, _ = self.chance.choice(self.shelves)
+        if manner == ("bag",):
+            return (self.chance.choice(("in", "out")), word, self.chance.choice(self.WORDS[:4]))
+        if manner == ("row",):
+            place = self.chance.choice((num(0), num(1), num(3), num(5), ("long", word), self.term(1)))
+            if self.chance.random() < 0.5:
+                return ("drop", word, place)
+            return ("lay", word, place, self.chance.choice("abc"))
+        return ("more" if manner == ("sum",) else "set", word, self.term(2))
+
+    def row(self):
+        return ("when", self.term(1), self.deed()) if self.chance.random() < 0.25 else self.deed()
+
+    def program(self, hands=5, rows=25):
+        """A program of so many hands at most, in which about so many rows are no joins of the first one at its end."""
+        words = list(self.WORDS)
+        self.chance.shuffle(words)
+        self.shelves = tuple(self.shelf(word) for word in words[: self.chance.randint(0, 6)])
+        self.chance.shuffle(words)
+        free = words[:hands]
+        first = free.pop()
+        self.rows, self.held, going = {first: []}, {first: []}, [first]
+        for _ in range(rows):
+            hand = self.chance.choice(going)
+            ready = [word for word in self.held[hand] if word not in going]
+            kind = self.chance.choice(("deed", "deed", "deed", "split", "join", "end"))
+            if kind == "split" and free:
+                going.append(free.pop())
+                self.rows[hand].append(("split", going[-1]))
+                self.held[hand].append(going[-1])
+                self.rows[going[-1]], self.held[going[-1]] = [], []
+            elif kind == "join" and ready:
+                self.join(hand, self.chance.choice(ready))
+            elif kind == "end" and hand != first and self.chance.random() < 0.6:
+                going.remove(hand)
+            else:
+                self.rows[hand].append(self.row())
+        while self.held[first]:
+            self.join(first, self.chance.choice(self.held[first]))
+        others = [word for word in self.rows if word != first]
+        self.chance.shuffle(others)
+        return (self.shelves, tuple((word, tuple(self.rows[word])) for word in [first] + others))
+
+    def join(self, hand, other):
+        self.rows[hand].append(("join", other))
+        self.held[hand].remove(other)
+        self.held[hand].extend(self.held[other])

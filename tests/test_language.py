@@ -171,6 +171,8 @@ class Language(unittest.TestCase):
         for path in FILES:
             tree = tree_of(path)
             bound = set(bound_at_top(tree))
+            kept = {node.name for node in tree.body if isinstance(node, ast.ClassDef)}
+            kept.update(alias.name for node in tree.body if isinstance(node, ast.ImportFrom) for alias in node.names)
             for node in ast.walk(tree):
                 if isinstance(node, ast.arg):
                     bound.add(node.arg)
@@ -183,7 +185,7 @@ class Language(unittest.TestCase):
             for node in ast.walk(tree):
                 if isinstance(node, ast.arg) or isinstance(node, ast.Name) and isinstance(node.ctx, ast.Store):
                     name = node.arg if isinstance(node, ast.arg) else node.id
-                    self.assertFalse(hasattr(builtins, name), (path, node.lineno, name))
+                    self.assertFalse(hasattr(builtins, name) or name in kept, (path, node.lineno, name))
                 if isinstance(node, ast.Name):
                     self.assertIn(node.id, bound | BUILTINS, (path, node.lineno))
                     self.assertNotIn(node.id, BARRED_NAMES, (path, node.lineno))
