@@ -11,6 +11,11 @@ def shelf_named(program, S):
     return first_called(program[0], S)
 
 
+# A house has its values in order of the shelves.
+def shelf_place(program, S):
+    return [shelf[0] for shelf in program[0]].index(S)
+
+
 def hand_named(program, H):
     return first_called(program[1], H)
 

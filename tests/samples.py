@@ -2,6 +2,8 @@
 
 import random
 
+from copiedhouse.triples import joined
+
 WIDE = 4294967296
 
 
@@ -306,3 +308,133 @@ class LetBy:
         self.rows[hand].append(("join", other))
         self.held[hand].remove(other)
         self.held[hand].extend(self.held[other])
+
+
+def second_value(term, value):
+    """What a term comes to by another way, `value` telling the value of a shelf, or of was, mine and yours."""
+    kind = term[0]
+    if kind == "num":
+        return term[1]
+    if kind in ("was", "mine", "yours", "shelf"):
+        return value(term[-1])
+    if kind == "many":
+        return dict(value(term[1])).get(term[2], 0) & WIDE - 1
+    if kind == "long":
+        return len(value(term[1]))
+    values = [second_value(inner, value) for inner in term if isinstance(inner, tuple)]
+    if kind == "if":
+        return values[2] if values[0] == 0 else values[1]
+    signs = {"+": int.__add__, "-": int.__sub__, "*": int.__mul__, "<": int.__lt__, "=": int.__eq__}
+    return int(signs[term[1]](*values)) & WIDE - 1
+
+
+def second_made(manner, deed, before, number):
+    """What a deed makes of a value by another way."""
+    if deed[0] in ("set", "more"):
+        number += before if deed[0] == "more" else 0
+        return number % (manner[1] if manner[0] == "told" else WIDE)
+    if deed[0] in ("in", "out"):
+        numbers = {deed[2]: 0, **dict(before)}
+        numbers[deed[2]] += 1 if deed[0] == "in" else -1
+        return tuple((word, numbers[word]) for word in sorted(numbers) if numbers[word])
+    words = list(before)
+    if deed[0] == "lay":
+        words.insert(min(number, len(words)), deed[3])
+    elif number < len(words):
+        words.pop(number)
+    return tuple(words)
+
+
+class Places:
+    """What is at each place (H, n, S) by another way: asked backwards, shelf by shelf, without any run."""
+
+    def __init__(self, program):
+        self.shelves = {word: (manner, begin) for word, manner, begin in program[0]}
+        self.rows = dict(program[1])
+        self.first = program[1][0][0]
+        self.splits = {}
+        for word, rows in program[1]:
+            self.splits.update({row[1]: (word, k) for k, row in enumerate(rows) if row[0] == "split"})
+        self.lines = {}
+
+    def asked(self, term):
+        """The shelves that a term asks for."""
+        if term[0] in ("shelf", "many", "long"):
+            return {term[1]}
+        return set().union(*(self.asked(inner) for inner in term if isinstance(inner, tuple)))
+
+    def value(self, H, n, term):
+        """What a term comes to there, or None where a shelf that it asks for has no value."""
+        if any(self.line(H, n, S) is None for S in self.asked(term)):
+            return None
+        return second_value(term, lambda S: self.line(H, n, S)[0])
+
+    def line(self, H, n, S):
+        """(value, wrote), or None where a row that it rests on clashes."""
+        if (H, n, S) not in self.lines:
+            self.lines[H, n, S] = self.found(H, n, S)
+        return self.lines[H, n, S]
+
+    def found(self, H, n, S):
+        manner, begin = self.shelves[S]
+        if n == 0:
+            if H == self.first:
+                return (begin, False)
+            line = self.line(*self.splits[H], S)
+            return line and (line[0], False)
+        before = self.line(H, n - 1, S)
+        row = self.rows[H][n - 1]
+        if row[0] == "join":
+            yours = self.line(row[1], len(self.rows[row[1]]), S)
+            was = self.line(*self.splits[row[1]], S)
+            if None in (before, yours, was):
+                return None
+            value = joined(manner, was[0], before[0], yours[0], yours[1])
+            return None if value is None else (value, before[1] or yours[1])
+        deed = row[2] if row[0] == "when" else row
+        if deed[0] in ("split", "tell") or deed[1] != S:
+            return before
+        if row[0] == "when":
+            guard = self.value(H, n - 1, row[1])
+            if not guard:
+                return before if guard == 0 else None
+        number = 0 if deed[0] in ("in", "out") else self.value(H, n - 1, deed[2])
+        if number is None or (before is None and deed[0] != "set"):
+            return None
+        return (second_made(manner, deed, before and before[0], number), True)
+
+    def rests(self, H, n, S):
+        """The places that a place rests on, each once; None where a guard has no value."""
+        if n == 0:
+            return [] if H == self.first else [(*self.splits[H], S)]
+        row = self.rows[H][n - 1]
+        if row[0] == "join":
+            return [(H, n - 1, S), (row[1], len(self.rows[row[1]]), S), (*self.splits[row[1]], S)]
+        deed = row[2] if row[0] == "when" else row
+        if deed[0] in ("split", "tell") or deed[1] != S:
+            return [(H, n - 1, S)]
+        shelves = set()
+        if row[0] == "when":
+            shelves = self.asked(row[1])
+            guard = self.value(H, n - 1, row[1])
+            if guard is None:
+                return None
+            if guard == 0:
+                return [(H, n - 1, T) for T in sorted(shelves | {S})]
+        shelves = shelves | (set() if deed[0] in ("in", "out") else self.asked(deed[2]))
+        return [(H, n - 1, T) for T in sorted(shelves | (set() if deed[0] == "set" else {S}))]
+
+    def standing(self, H, n):
+        """A hand's house, what it told and what it wrote when it did n rows."""
+        lines = [self.line(H, n, S) for S in self.shelves]
+        told = []
+        for k, row in enumerate(self.rows[H][:n]):
+            guard = self.value(H, k, row[1]) if row[0] == "when" else 1
+            deed = row[2] if row[0] == "when" else row
+            if deed[0] == "tell" and guard:
+                told.append(self.value(H, k, deed[1]))
+        return (tuple(line[0] for line in lines), told, [S for S, line in zip(self.shelves, lines) if line[1]])
+
+    def clash(self, H, n):
+        """The first shelf that clashes where a hand joins another by its row n, or None."""
+        return next((S for S in self.shelves if self.line(H, n + 1, S) is None), None)

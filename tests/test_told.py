@@ -4,7 +4,7 @@ import unittest
 
 from copiedhouse.termreader import read_term
 from copiedhouse.told import value_of_three
-from tests.samples import WIDE, LetBy, nested, num, op
+from tests.samples import WIDE, LetBy, nested, num, op, second_value
 
 LAST = WIDE - 1
 NUMBERS = (0, 1, 2, 3, 65536, LAST - 1, LAST)
@@ -63,17 +63,7 @@ class EachSort(unittest.TestCase):
 
 
 def second(term, was, mine, yours):
-    """The value by another way: Python's own numbers, the rest by WIDE taken at each step."""
-    kind = term[0]
-    if kind == "num":
-        return term[1]
-    if kind in ("was", "mine", "yours"):
-        return {"was": was, "mine": mine, "yours": yours}[kind]
-    values = [second(inner, was, mine, yours) for inner in term if isinstance(inner, tuple)]
-    if kind == "if":
-        return values[2] if values[0] == 0 else values[1]
-    signs = {"+": int.__add__, "-": int.__sub__, "*": int.__mul__, "<": int.__lt__, "=": int.__eq__}
-    return int(signs[term[1]](*values)) & LAST
+    return second_value(term, {"was": was, "mine": mine, "yours": yours}.get)
 
 
 class ManyTerms(unittest.TestCase):
