@@ -49,16 +49,21 @@ def in_split_order(program):
     return tuple(order)
 
 
-def inner_hands(program, H):
-    joins = named_by_hands(program, "join")
-    inner = {H: True}
-    waiting = [H]
+# All that is come to from one by one link or more, as the keys of a dict.
+def come_to(links, one):
+    met = {}
+    waiting = [one]
     while waiting:
-        word = waiting.pop()
-        for joined in joins[word]:
-            if joined not in inner:
-                inner[joined] = True
-                waiting.append(joined)
+        last = waiting.pop()
+        for other in links[last]:
+            if other not in met:
+                met[other] = True
+                waiting.append(other)
+    return met
+
+
+def inner_hands(program, H):
+    inner = come_to(named_by_hands(program, "join"), H)
     return (H,) + tuple([hand[0] for hand in program[1] if hand[0] in inner and hand[0] != H])
 
 
@@ -70,3 +75,15 @@ def deeds_on(program, H, S):
 def is_deed_on(row, S):
     deed = deed_of(row)
     return deed is not None and shelf_of(deed) == S
+
+
+# Whether a hand, or one that it joins, and so on, has a deed on the shelf.
+def has_inner_deed(program, H, S):
+    return any([deeds_on(program, inner, S) for inner in inner_hands(program, H)])
+
+
+# The shelves of which, by the rows' forms, the join of a hand may ask what they were at its split. The manner last
+# never asks, and others don't where nothing can have become other.
+def shelves_asked_back(program, H):
+    asking = [shelf[0] for shelf in program[0] if shelf[1][0] != "last"]
+    return [S for S in asking if has_inner_deed(program, H, S)]

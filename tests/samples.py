@@ -2,6 +2,7 @@
 
 import random
 
+from copiedhouse.reader import read
 from copiedhouse.triples import joined
 
 WIDE = 4294967296
@@ -131,6 +132,32 @@ WHOLE = (
         ),
     ),
 )
+
+FIVE_SHELVES = """\
+shelf n last 1
+shelf s sum 10
+shelf b bag x 1
+shelf r row p q
+shelf t told 3 2 (+ mine yours)
+"""
+
+# Rows of main: 0 split, 1 set, 2 more, 3 when, 4 when, 5 tell, 6 join, 7 when.
+FIVE = read(FIVE_SHELVES + """\
+hand main
+split kid
+set n (+ s 5)
+more s n
+when (= n 0) set n 9
+when (many b x) set t (long r)
+tell n
+join kid
+when n lay r 0 z
+hand kid
+set n n
+in b y
+drop r 1
+more s 100
+set t 1""")
 
 # Terms and their texts: of a told manner, and of the others.
 COMMON_TERMS = (
@@ -308,6 +335,49 @@ class LetBy:
         self.rows[hand].append(("join", other))
         self.held[hand].remove(other)
         self.held[hand].extend(self.held[other])
+
+
+def second_stretches(program):
+    """The stretches by another way: a cut ahead of the first row, at each split and join, and behind the last row."""
+    told = []
+    for word, rows in program[1]:
+        cuts = [-1] + [k for k, row in enumerate(rows) if row[0] in ("split", "join")] + [len(rows)]
+        told += [(word, one + 1, other) for one, other in zip(cuts, cuts[1:])]
+    return told
+
+
+def second_ahead(program):
+    """All pairs of which the first is ahead of the second, by one more step until there are no more."""
+    cut = second_stretches(program)
+    rows_of = dict(program[1])
+    pairs = set()
+    for one, (hand, _, last) in enumerate(cut):
+        for other, (also, first, _) in enumerate(cut):
+            if hand == also and first == last + 1:
+                pairs.add((one, other))
+            if last < len(rows_of[hand]) and rows_of[hand][last] == ("split", also) and first == 0:
+                pairs.add((one, other))
+            if last == len(rows_of[hand]) and first > 0 and rows_of[also][first - 1] == ("join", hand):
+                pairs.add((one, other))
+    while True:
+        more = {(one, far) for one, near in pairs for also, far in pairs if near == also} - pairs
+        if not more:
+            return pairs
+        pairs |= more
+
+
+def second_orders(program):
+    """All orders, in order, by another way: behind each begin each stretch that waits for no other."""
+    pairs = second_ahead(program)
+    many = len(second_stretches(program))
+
+    def begun_with(order):
+        if len(order) == many:
+            return [order]
+        ready = [k for k in range(many) if k not in order and all(one in order for one, other in pairs if other == k)]
+        return [whole for k in ready for whole in begun_with(order + (k,))]
+
+    return begun_with(())
 
 
 def second_value(term, value):

@@ -6,32 +6,10 @@ from copiedhouse.papers import check_paper
 from copiedhouse.reader import read
 from copiedhouse.runs import Run
 from copiedhouse.writer import show
+from tests.samples import FIVE as PROGRAM
 from tests.samples import WIDE, LetBy, Places
 
 LAST = WIDE - 1
-
-# Rows of main: 0 split, 1 set, 2 more, 3 when, 4 when, 5 tell, 6 join, 7 when.
-PROGRAM = read("""\
-shelf n last 1
-shelf s sum 10
-shelf b bag x 1
-shelf r row p q
-shelf t told 3 2 (+ mine yours)
-hand main
-split kid
-set n (+ s 5)
-more s n
-when (= n 0) set n 9
-when (many b x) set t (long r)
-tell n
-join kid
-when n lay r 0 z
-hand kid
-set n n
-in b y
-drop r 1
-more s 100
-set t 1""")
 
 BEGINS = {"n": 1, "s": 10, "b": (("x", 1),), "r": ("p", "q"), "t": 2}
 
