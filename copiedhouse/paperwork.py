@@ -30,19 +30,23 @@ def lines_up_to(program, place):
 
 
 def gone_over(program, paper):
-    places = dict([(line[:3], True) for line in paper])
+    places = {}
+    for line in paper:
+        places[line[:3]] = True
+        # A join is gone over by any shelf.
+        places[line[:2]] = True
     rows = []
     for hand in program[1]:
         for number, row in enumerate(hand[1]):
-            if is_gone_over(program, places, (hand[0], number + 1), row):
+            if is_gone_over(places, (hand[0], number + 1), row):
                 rows.append((hand[0], number))
     return rows
 
 
 # `behind` is (H, n) behind the row.
-def is_gone_over(program, places, behind, row):
+def is_gone_over(places, behind, row):
     if row[0] == "join":
-        return any([behind + (shelf[0],) in places for shelf in program[0]])
+        return behind in places
     deed = deed_of(row)
     return deed is not None and behind + (shelf_of(deed),) in places
 
@@ -51,12 +55,13 @@ def spared(program, paper):
     over = dict([(place, True) for place in gone_over(program, paper)])
     hands = []
     for hand in program[1]:
-        rows = [spared_row(row, (hand[0], number) in over) for number, row in enumerate(hand[1])]
+        rows = [row if (hand[0], number) in over else spared_row(row) for number, row in enumerate(hand[1])]
         hands.append((hand[0], tuple(rows)))
     return (program[0], tuple(hands))
 
 
-def spared_row(row, is_over):
-    if is_over or deed_of(row) is None:
+# Splits and joins stay, whatever a paper goes over.
+def spared_row(row):
+    if deed_of(row) is None:
         return row
     return ("tell", ("num", 0))

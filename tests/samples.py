@@ -331,6 +331,15 @@ class LetBy:
         self.chance.shuffle(others)
         return (self.shelves, tuple((word, tuple(self.rows[word])) for word in [first] + others))
 
+    def retold(self, program, terms):
+        """The program with one of these terms in most of its told manners."""
+        shelves = []
+        for word, manner, begin in program[0]:
+            if manner[0] == "told" and self.chance.random() < 0.7:
+                manner = manner[:2] + (self.chance.choice(terms),)
+            shelves.append((word, manner, begin))
+        return (tuple(shelves), program[1])
+
     def join(self, hand, other):
         self.rows[hand].append(("join", other))
         self.held[hand].remove(other)
